@@ -1,0 +1,1 @@
+"""What programs with masked levels do under all arrivals of their lines."""
