@@ -1,4 +1,4 @@
-"""The example of the interface, as it stands, and those of README.md."""
+"""The examples of the interface, as they stand, and those of README.md."""
 
 import doctest
 import os
@@ -17,19 +17,30 @@ EXAMPLE = """
 [('serve', 'tick'), [], ('clock', 0, 0, (0, 0), 1, 1)]
 """
 
+# Of the second example, what does not count scripts.
+CLAIMS = """
+>>> from maskedlevels.claims import against
+>>> from maskedlevels.programs import Program
+>>> from maskedlevels.reached import seen_at
+>>> program = Program(1, 2, {"x": 0}, {"main": [("look", "x")], "flip": [("add", "x", 1)]}, {"t": (1, "flip")})
+>>> (seen_at(program, "main", 0), against(program, ("unseen", "main", 0, 1)))
+([0, 1], [('serve', 't'), ('row', 0), ('row', 0)])
+"""
+
 
 class ExampleTest(unittest.TestCase):
     def holds(self, text):
         parts = [part.split("```")[0] for part in text.split("```\n>>>")[1:]]
         examples = "\n".join(">>>" + part for part in parts) or text
         test = doctest.DocTestParser().get_doctest(examples, {}, "example", None, None)
-        self.assertGreater(len(test.examples), 5)
+        self.assertGreater(len(test.examples), 4)
         lines = []
         results = doctest.DocTestRunner(verbose=False).run(test, out=lines.append)
         self.assertEqual(results.failed, 0, "".join(lines))
 
-    def test_the_example_of_the_interface(self):
+    def test_the_examples_of_the_interface(self):
         self.holds(EXAMPLE)
+        self.holds(CLAIMS)
 
     def test_the_examples_of_the_readme(self):
         here = os.path.dirname(os.path.abspath(__file__))

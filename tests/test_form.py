@@ -14,6 +14,22 @@ FUNCTIONS = {
         "is_store": "program value", "value_in": "program store name", "can_serve": "program procedure point mask",
     },
     "machine": {"is_move": "value", "played": "program script", "places_of": "program script"},
+    "relations": {
+        "outcomes": "program beginning", "served": "program line store", "between": "program level store",
+        "relation_of": "program line stores",
+    },
+    "reached": {
+        "places": "program", "can_come": "program value", "seen_at": "program procedure point",
+        "meetings": "program section", "masks_at": "program procedure point", "script_to": "program place",
+    },
+    "tables": {
+        "table_of": "program", "is_table": "program value", "more_of": "program table", "joined": "program *tables",
+    },
+    "claims": {"holds": "program claim", "is_shown": "program value claim", "against": "program claim"},
+    "notes": {
+        "write_move": "move", "read_move": "word", "write_script": "script", "read_script": "text",
+        "write_program": "program", "read_program": "note",
+    },
 }
 CLASSES = {
     "programs": {
@@ -31,8 +47,19 @@ CLASSES = {
         },
         "Board": {"__init__": "program", "arrive": "line", "pending": "", "step": "choice", "script": ""},
     },
+    "relations": {
+        "Relation": {
+            "__init__": "pairs", "pairs": "", "stores": "", "__contains__": "pair", "__len__": "", "__call__": "store",
+            "__or__": "other", "__and__": "other", "__sub__": "other", "__mul__": "other", "__le__": "other",
+            "__eq__": "other", "turned": "", "closed": "stores", "same": "stores",
+        },
+    },
 }
-PROPERTIES = {"levels", "size", "main", "program", "store", "mask"}
+DECORATORS = {
+    "Program": {"levels": "property", "size": "property", "main": "property"},
+    "Machine": {"program": "property", "store": "property", "mask": "property"},
+    "Relation": {"same": "staticmethod"},
+}
 USED_BUILTINS = set(
     "len range enumerate zip min max sum abs sorted reversed int str bool bytes list tuple dict set frozenset "
     "isinstance ord repr any all divmod type super property staticmethod Exception ValueError TypeError KeyError "
@@ -59,7 +86,10 @@ def sources():
 
 
 def parameters(definition):
-    return [arg.arg for arg in definition.args.args if arg.arg != "self"]
+    found = [arg.arg for arg in definition.args.args if arg.arg != "self"]
+    if definition.args.vararg is not None:
+        found.append("*" + definition.args.vararg.arg)
+    return found
 
 
 class InterfaceTest(unittest.TestCase):
@@ -83,7 +113,8 @@ class InterfaceTest(unittest.TestCase):
                 for method, told in methods.items():
                     self.assertEqual(parameters(found[method]), told.split(), method)
                     decorators = [ast.unparse(node) for node in found[method].decorator_list]
-                    self.assertEqual(decorators, ["property"] if method in PROPERTIES else [], method)
+                    wanted = DECORATORS.get(name, {}).get(method)
+                    self.assertEqual(decorators, [] if wanted is None else [wanted], method)
 
     def test_errors_are_defined_in_their_file(self):
         self.assertEqual(len(self.defined("errors", ast.ClassDef)), 22)
@@ -111,7 +142,9 @@ class FormTest(unittest.TestCase):
                 if isinstance(node, ast.ImportFrom):
                     package, module = node.module.split(".")
                     self.assertEqual(package, "maskedlevels")
-                    names = [other.name for other in ast.parse(texts[module + ".py"]).body if hasattr(other, "name")]
+                    body = ast.parse(texts[module + ".py"]).body
+                    names = [other.name for other in body if hasattr(other, "name")]
+                    names.extend(other.targets[0].id for other in body if isinstance(other, ast.Assign))
                     for alias in node.names:
                         self.assertIn(alias.name, names)
 
@@ -137,6 +170,46 @@ class FormTest(unittest.TestCase):
                     self.assertNotEqual(node.attr, "sort", name)
                 if isinstance(node, (ast.For, ast.comprehension)):
                     self.assertNotIsInstance(node.iter, (ast.Set, ast.SetComp), name)
+
+    def test_what_is_sorted_has_a_key(self):
+        # A class of the package has an order of its own, so nothing is sorted or compared by it.
+        for name, text in sources().items():
+            for node in ast.walk(ast.parse(text)):
+                if isinstance(node, ast.Call) and isinstance(node.func, ast.Name) and node.func.id in ("sorted", "min", "max"):
+                    keys = [word.value.id for word in node.keywords if word.arg == "key"]
+                    self.assertEqual(len(keys), 1, name)
+                    self.assertIn(keys[0], ("str", "int", "len"), name)
+
+    def test_no_file_imports_in_a_ring(self):
+        found = {}
+        for name, text in sources().items():
+            nodes = [node for node in ast.walk(ast.parse(text)) if isinstance(node, ast.ImportFrom)]
+            found[name[:-3]] = {node.module.split(".")[1] for node in nodes}
+        while found:
+            done = [name for name, needed in found.items() if not needed & set(found)]
+            self.assertTrue(done, found)
+            found = {name: needed for name, needed in found.items() if name not in done}
+
+    def test_locals_have_no_name_of_an_import_or_a_class(self):
+        for name, text in sources().items():
+            tree = ast.parse(text)
+            bound = {alias.name for node in tree.body if isinstance(node, ast.ImportFrom) for alias in node.names}
+            bound |= {node.name for node in tree.body if isinstance(node, ast.ClassDef)}
+            stored = [node.id for node in ast.walk(tree) if isinstance(node, ast.Name) and isinstance(node.ctx, ast.Store)]
+            stored.extend(node.arg for node in ast.walk(tree) if isinstance(node, ast.arg))
+            self.assertFalse(bound & set(stored), name)
+
+    def test_methods_and_attributes_have_unlike_names(self):
+        methods, attributes = set(), set()
+        for text in sources().values():
+            for node in ast.walk(ast.parse(text)):
+                if isinstance(node, ast.ClassDef):
+                    methods |= {part.name for part in node.body if isinstance(part, ast.FunctionDef)}
+                if isinstance(node, ast.Attribute) and isinstance(node.ctx, ast.Store):
+                    attributes.add(node.attr)
+        self.assertFalse(methods & attributes)
+        for kind in (str, int, list, dict, set, bytes):
+            self.assertFalse((methods - {"__init__"}) & {name for name in dir(kind) if not name.startswith("__")})
 
 
 if __name__ == "__main__":
