@@ -91,4 +91,4 @@ def against(program, claim):
     check_program(program)
     check_claim(program, claim)
     flow = flow_of(program)
-    return script_to_any(program, flow, those_against(program, claim, flow.entries()))
+    return script_to_any(flow, those_against(program, claim, flow.entries()))

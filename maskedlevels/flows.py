@@ -16,6 +16,9 @@ class Flow:
     the frames that begin and return in between. A beginning that turns up late is at
     distance 0 and goes ahead of all that is farther; what is asked of its ends is
     farther than they are. So the first way on which an entry is taken is a shortest.
+
+    What follows from an entry is told by methods of their own: a class below may put
+    more into its beginnings and entries, behind what stands there.
     """
 
     def __init__(self, program):
@@ -25,6 +28,26 @@ class Flow:
         self._ways = {}
         self._ends = {}
         self._waiting = {}
+
+    def root(self):
+        """The beginning of the main procedure at the start."""
+        return main_beginning(self._program)
+
+    def first_of(self, beginning):
+        """The entry of a frame at its beginning."""
+        return first_entry(beginning)
+
+    def rows_at(self, entry):
+        """A tuple (choice, entry behind) for each way to do the row at an entry."""
+        return behind_rows(self._program, entry)
+
+    def frames_at(self, entry):
+        """A tuple (move, beginning) for each frame that can begin at an entry."""
+        return begun_at(self._program, entry)
+
+    def entry_behind(self, entry, move, end):
+        """The entry behind the return of a frame that a move began; None if it is of no interest."""
+        return behind_frame(entry, move, end)
 
     def go(self, beginning):
         """Finds all that begins with this beginning, if it is not found yet."""
@@ -40,7 +63,7 @@ class Flow:
         if beginning not in self._ends:
             self._ends[beginning] = []
             self._waiting[beginning] = []
-            self._put(0, first_entry(beginning), None)
+            self._put(0, self.first_of(beginning), None)
 
     def _put(self, far, entry, way):
         """Puts an entry to which a way leads: (entry before, move, end of the frame between or None)."""
@@ -51,17 +74,23 @@ class Flow:
 
     def _go_on(self, entry, far):
         """Puts all that follows from an entry, and from what is known of others."""
-        for choice, behind in behind_rows(self._program, entry):
+        for choice, behind in self.rows_at(entry):
             self._put(far + 1, behind, (entry, ("row", choice), None))
-        for move, begun in begun_at(self._program, entry):
+        for move, begun in self.frames_at(entry):
             self._begin(begun)
             self._waiting[begun].append((entry, move))
             for end in self._ends[begun]:
-                self._put(far + self._far[end] + 2, behind_frame(entry, move, end), (entry, move, end))
+                self._return(entry, move, end)
         if row_of(self._program, entry) is None:
             self._ends[entry[0]].append(entry)
             for waiting, move in self._waiting[entry[0]]:
-                self._put(far + self._far[waiting] + 2, behind_frame(waiting, move, entry), (waiting, move, entry))
+                self._return(waiting, move, entry)
+
+    def _return(self, entry, move, end):
+        """Puts the entry behind the return of a frame that began at an entry."""
+        behind = self.entry_behind(entry, move, end)
+        if behind is not None:
+            self._put(self._far[entry] + self._far[end] + 2, behind, (entry, move, end))
 
     def entries(self):
         """All entries that are found; the same ones in the same order for equal programs."""
@@ -96,5 +125,5 @@ class Flow:
 def flow_of(program):
     """The flow of all runs of a program: its entries are the least closed table."""
     flow = Flow(program)
-    flow.go(main_beginning(program))
+    flow.go(flow.root())
     return flow

@@ -82,6 +82,11 @@ def row_of(program, entry):
     return program.row_at(entry[0][0], entry[1])
 
 
+def bound_at(program, entry):
+    """The bound at an entry: the lines above it can be served there."""
+    return greater(entry[4], program.guard_at(entry[0][0], entry[1]))
+
+
 def behind_rows(program, entry):
     """A tuple (choice, entry behind) for each way to do the row at an entry; none for a call and an end."""
     beginning, point, kept, store, mask = entry
@@ -98,10 +103,10 @@ def behind_rows(program, entry):
 
 def begun_at(program, entry):
     """A tuple (move, beginning) for each unlike frame that can begin at an entry: of lines, and of a call."""
-    beginning, point, _, store, mask = entry
-    procedure, floor, _, _ = beginning
+    beginning, _, _, store, mask = entry
+    _, floor, _, _ = beginning
     found = {}
-    for line in program.lines_above(greater(mask, program.guard_at(procedure, point))):
+    for line in program.lines_above(bound_at(program, entry)):
         found.setdefault(line_beginning(program, line, store), ("serve", line))
     row = row_of(program, entry)
     if row is not None and row[0] == "call":

@@ -73,4 +73,4 @@ def script_to(program, place):
     if not is_place(program, place):
         raise BadArgument(place)
     flow = flow_of(program)
-    return script_to_any(program, flow, [entry for entry in flow.entries() if place_at(entry) == place])
+    return script_to_any(flow, [entry for entry in flow.entries() if place_at(entry) == place])

@@ -1,10 +1,9 @@
 """Scripts with the fewest moves from the start of a program to entries."""
 
-from maskedlevels.frames import main_beginning
 from maskedlevels.nearest import Nearest
 
 
-def approaches(program, flow):
+def approaches(flow):
     """How a run comes to each beginning with the fewest moves.
 
     A dict from the beginnings to tuples (moves, entry, move): how many there are, the
@@ -16,7 +15,7 @@ def approaches(program, flow):
         starts.setdefault(entry[0], []).append((entry, move, begun))
     found = {}
     queue = Nearest()
-    queue.put(0, (main_beginning(program), None, None))
+    queue.put(0, (flow.root(), None, None))
     while queue.is_filled():
         far, (beginning, below, by) = queue.take()
         if beginning not in found:
@@ -36,16 +35,26 @@ def way_to(flow, found, entry):
     return [move for part in parts[::-1] for move in part]
 
 
-def script_to_any(program, flow, entries):
+def moves_before(flow, found, entry):
+    """How many moves a run makes at least to come to an entry, with the approaches that were found."""
+    return found[entry[0]][0] + flow.far(entry)
+
+
+def nearest_of(flow, found, entries):
+    """One of some entries to which a run comes with the fewest moves; there is at least one."""
+    nearest = entries[0]
+    least = moves_before(flow, found, nearest)
+    for entry in entries:
+        far = moves_before(flow, found, entry)
+        if far < least:
+            nearest = entry
+            least = far
+    return nearest
+
+
+def script_to_any(flow, entries):
     """A script with the fewest moves to one of some entries of a flow of all runs; None if there are none."""
     if not entries:
         return None
-    found = approaches(program, flow)
-    nearest = entries[0]
-    least = None
-    for entry in entries:
-        far = found[entry[0]][0] + flow.far(entry)
-        if least is None or far < least:
-            nearest = entry
-            least = far
-    return way_to(flow, found, nearest)
+    found = approaches(flow)
+    return way_to(flow, found, nearest_of(flow, found, entries))

@@ -8,10 +8,14 @@ import unittest
 from maskedlevels.claims import against, holds, is_shown
 from maskedlevels.errors import LevelError
 from maskedlevels.machine import played
+from maskedlevels.masks import keeps, left_script, masks_left
 from maskedlevels.notes import read_move, read_program, read_script, write_move, write_program, write_script
+from maskedlevels.piles import deepest, pile_script
 from maskedlevels.programs import Program
 from maskedlevels.reached import can_come, masks_at, meetings, places, script_to, seen_at
 from maskedlevels.relations import Relation, between, outcomes, relation_of, served
+from maskedlevels.starving import endless, endless_ring, starved, starving
+from maskedlevels.stretches import longest, stretch_ring, stretch_script
 from maskedlevels.tables import is_table, joined, more_of, table_of
 from tests.values import odd_values
 from tests.walks import few_program
@@ -35,7 +39,7 @@ def made(turned=False):
 
 
 def calls_of(program):
-    """Each call of the new modules with arguments by their names."""
+    """Each call of these modules with arguments by their names."""
     table = table_of(program)
     return [
         (outcomes, {"program": program, "beginning": ("sub", 1, STORE, 1)}),
@@ -65,7 +69,26 @@ def calls_of(program):
         (read_script, {"text": "row:3 serve:t"}),
         (write_program, {"program": program}),
         (read_program, {"note": write_program(program)}),
+        (masks_left, {"program": program, "procedure": "sub"}),
+        (keeps, {"program": program, "procedure": "sub"}),
+        (left_script, {"program": program, "procedure": "sub"}),
+        (starved, {"program": program}),
+        (starving, {"program": program, "line": "t"}),
+        (endless, {"program": program, "arrivals": True}),
+        (endless_ring, {"program": program, "floor": 0, "arrivals": False}),
+        (longest, {"program": program, "level": 1}),
+        (stretch_ring, {"program": program, "level": 3}),
+        (stretch_script, {"program": program, "level": 2}),
+        (deepest, {"program": program, "sizes": {"sub": 3, "flip": 0}}),
+        (pile_script, {"program": program, "sizes": {"put": 1000}}),
     ]
+
+
+def by_position(call, named):
+    """Makes a call with all arguments by position that can be given so."""
+    kinds = inspect.signature(call).parameters
+    behind = {name: value for name, value in named.items() if kinds[name].kind == inspect.Parameter.KEYWORD_ONLY}
+    return call(*[value for name, value in named.items() if name not in behind], **behind)
 
 
 def plain(value):
@@ -76,7 +99,7 @@ def plain(value):
 class CallsTest(unittest.TestCase):
     def test_each_call_by_the_names_of_its_parameters_in_any_order(self):
         for call, named in calls_of(made()):
-            wanted = plain(call(*named.values()))
+            wanted = plain(by_position(call, named))
             for order in itertools.permutations(named):
                 self.assertEqual(plain(call(**{name: named[name] for name in order})), wanted)
 
@@ -88,6 +111,10 @@ class CallsTest(unittest.TestCase):
             is_table: "program value", more_of: "program table", joined: "program tables", holds: "program claim",
             is_shown: "program value claim", against: "program claim", write_move: "move", read_move: "word",
             write_script: "script", read_script: "text", write_program: "program", read_program: "note",
+            masks_left: "program procedure", keeps: "program procedure", left_script: "program procedure", starved: "program",
+            starving: "program line", endless: "program arrivals", endless_ring: "program floor arrivals",
+            longest: "program level", stretch_ring: "program level", stretch_script: "program level",
+            deepest: "program sizes", pile_script: "program sizes",
             Relation: "pairs", Relation.same: "stores", Relation([]).closed: "stores", Relation([]).__call__: "store",
         }
         for call, names in wanted.items():
@@ -97,7 +124,7 @@ class CallsTest(unittest.TestCase):
         figures = 0
         for call, named in calls_of(made()):
             told = plain(call(**named))
-            if type(told) is list and call not in (script_to, against, read_script):
+            if type(told) is list and call not in (script_to, against, read_script, left_script):
                 order = int if told and type(told[0]) is int else str
                 self.assertEqual(told, sorted(set(told), key=order))
                 figures += told != sorted(told)
@@ -126,12 +153,19 @@ class CallsTest(unittest.TestCase):
                 self.assertEqual(call(**named), before)
                 told.clear()
                 self.assertEqual(call(**named), before)
+            if type(told) is tuple:
+                before = [list(part) if type(part) is list else part for part in told]
+                for part in told:
+                    if type(part) is list:
+                        part.append(None)
+                        part.reverse()
+                self.assertEqual([list(part) if type(part) is list else part for part in call(**named)], before)
         self.assertEqual(program, made())
 
     def test_no_call_changes_what_it_was_given(self):
         program = made()
         for call, named in calls_of(program):
-            before = {name: list(value) if type(value) is list else value for name, value in named.items()}
+            before = {name: type(value)(value) if type(value) in (list, dict) else value for name, value in named.items()}
             call(**named)
             self.assertEqual(named, before)
         self.assertEqual(program, made())
@@ -197,6 +231,17 @@ class CallsTest(unittest.TestCase):
             found = places(program)
             for place in random.Random(seed).sample(found, min(10, len(found))):
                 self.assertEqual(script_to(other, place), script_to(program, place))
+            for told in (starved, pile_script):
+                self.assertEqual(told(other), told(program))
+            for procedure in program.procedures():
+                self.assertEqual(left_script(other, procedure), left_script(program, procedure))
+            for line in program.lines():
+                self.assertEqual(starving(other, line), starving(program, line))
+            for floor in range(program.levels + 1):
+                self.assertEqual(endless_ring(other, floor, arrivals=True), endless_ring(program, floor, arrivals=True))
+            for level in range(1, program.levels + 1):
+                self.assertEqual(stretch_script(other, level), stretch_script(program, level))
+                self.assertEqual(stretch_ring(other, level), stretch_ring(program, level))
 
 
 if __name__ == "__main__":

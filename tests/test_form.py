@@ -30,6 +30,13 @@ FUNCTIONS = {
         "write_move": "move", "read_move": "word", "write_script": "script", "read_script": "text",
         "write_program": "program", "read_program": "note",
     },
+    "masks": {"masks_left": "program procedure", "keeps": "program procedure", "left_script": "program procedure"},
+    "starving": {
+        "starved": "program", "starving": "program line", "endless": "program *, arrivals",
+        "endless_ring": "program floor *, arrivals",
+    },
+    "stretches": {"longest": "program level", "stretch_ring": "program level", "stretch_script": "program level"},
+    "piles": {"deepest": "program sizes", "pile_script": "program sizes"},
 }
 CLASSES = {
     "programs": {
@@ -89,6 +96,8 @@ def parameters(definition):
     found = [arg.arg for arg in definition.args.args if arg.arg != "self"]
     if definition.args.vararg is not None:
         found.append("*" + definition.args.vararg.arg)
+    if definition.args.kwonlyargs:
+        found.extend(["*,", *[arg.arg for arg in definition.args.kwonlyargs]])
     return found
 
 

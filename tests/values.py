@@ -81,3 +81,13 @@ def one_row(row, **changes):
     }
     parts.update(changes)
     return Program(**parts)
+
+
+class Refusals:
+    """Holds errors against what they keep; mixed into tests."""
+
+    def refuses(self, error, value, told, *args, **named):
+        with self.assertRaises(error) as caught:
+            told(*args, **named)
+        self.assertIs(type(caught.exception), error)
+        self.assertIs(caught.exception.value, value)
