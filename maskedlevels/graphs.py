@@ -65,7 +65,8 @@ def ring_with(before, root, taken):
     ring = [root]
     todo = [root]
     while todo:
-        for node in before[todo.pop()]:
+        behind = todo.pop()
+        for node in before[behind]:
             if node not in taken:
                 taken[node] = True
                 ring.append(node)

@@ -86,6 +86,17 @@ def is_number(text):
     return len(text) == 1 or text[0] != "0"
 
 
+def guards_of(program):
+    """A tuple (procedure, point, level) for each guard, by procedure and then point."""
+    found = []
+    for procedure in program.procedures():
+        for point in range(len(program[procedure]) + 1):
+            level = program.guard_at(procedure, point)
+            if level > 0:
+                found.append((procedure, point, level))
+    return found
+
+
 def things_of(program):
     """All things that a note tells of a program, in their order: tuples of a head and its parts."""
     things = [("levels", program.levels), ("size", program.size), ("main", program.main)]
@@ -94,11 +105,7 @@ def things_of(program):
     for line in program.lines():
         level, procedure = program.line_of(line)
         things.append(("line", line, level, procedure))
-    for procedure in program.procedures():
-        for point in range(len(program[procedure]) + 1):
-            guard = program.guard_at(procedure, point)
-            if guard > 0:
-                things.append(("guard", procedure, point, guard))
+    things.extend([("guard", *guard) for guard in guards_of(program)])
     for procedure in program.procedures():
         things.append(("proc", procedure))
         things.extend(program[procedure])

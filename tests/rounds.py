@@ -29,6 +29,14 @@ class Runs:
                 self.moves = None
                 return
 
+    def entries(self):
+        """The entries of all states."""
+        found = set()
+        for store, pile in self.moves:
+            _, mask, frames, begun = pile[-1]
+            found.add((begun[-1], *frames[-1][1:], store, mask))
+        return found
+
     def bound(self, state):
         _, mask, frames, _ = state[1][-1]
         return max(mask, self.program.guard_at(*frames[-1][:2]))

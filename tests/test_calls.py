@@ -6,14 +6,19 @@ import random
 import unittest
 
 from maskedlevels.claims import against, holds, is_shown
+from maskedlevels.consoles import Console
 from maskedlevels.errors import LevelError
+from maskedlevels.likeness import alike, difference
 from maskedlevels.machine import played
 from maskedlevels.masks import keeps, left_script, masks_left
+from maskedlevels.mends import Mend, is_met
 from maskedlevels.notes import read_move, read_program, read_script, write_move, write_program, write_script
+from maskedlevels.pairs import is_torn, pair_sights, torn_script
 from maskedlevels.piles import deepest, pile_script
 from maskedlevels.programs import Program
 from maskedlevels.reached import can_come, masks_at, meetings, places, script_to, seen_at
 from maskedlevels.relations import Relation, between, outcomes, relation_of, served
+from maskedlevels.sessions import Attempt, Session, attempted
 from maskedlevels.starving import endless, endless_ring, starved, starving
 from maskedlevels.stretches import longest, stretch_ring, stretch_script
 from maskedlevels.tables import is_table, joined, more_of, table_of
@@ -21,7 +26,8 @@ from tests.values import odd_values
 from tests.walks import few_program
 
 ROWS = {
-    "main": [("any", "x"), ("keep",), ("open", "s"), ("look", "x"), ("call", "sub")] + [("keep",)] * 7 + [("open", "s"), ("give",)],
+    "main": [("any", "x"), ("keep",), ("open", "s"), ("look", "x"), ("call", "sub")] + [("keep",)] * 6
+    + [("look", "y"), ("open", "s"), ("give",)],
     "sub": [("raise", 2), ("add", "y", 1)], "put": [("set", "x", 1), ("any", "y")], "flip": [("close", "s"), ("mask", 3)],
 }
 LINES = {"t": (1, "put"), "u": (3, "flip")}
@@ -29,6 +35,12 @@ GUARDS = {("main", 3): 1, ("main", 11): 2}
 START = {"x": 2, "y": 0}
 STORE = (0, 1, 1)
 PLACE = ("main", 12, 0, (1, 1, 1), 2, 0)
+MENU = [("main", 0, 1), ("main", 12, 3), ("sub", 0, 1)]
+WISHES = [("apart", "s"), ("short", 1, 10), ("unseen", "main", 3, 1)]
+
+
+# Scripts, and what is told in an order of its own.
+UNORDERED = ("script_to", "against", "read_script", "left_script", "torn_script", "attempted", "least", "say")
 
 
 def made(turned=False):
@@ -81,6 +93,17 @@ def calls_of(program):
         (stretch_script, {"program": program, "level": 2}),
         (deepest, {"program": program, "sizes": {"sub": 3, "flip": 0}}),
         (pile_script, {"program": program, "sizes": {"put": 1000}}),
+        (is_met, {"program": program, "wish": ("short", 1, 9)}),
+        (Mend(program, MENU, WISHES).behind, {"choice": (0, 2)}),
+        (Mend(program, MENU, WISHES).unmet, {"choice": (1,)}),
+        (Mend(program, MENU, WISHES).least, {}),
+        (alike, {"one": program, "other": made()}),
+        (difference, {"one": program, "other": program.with_guards({("main", 0): 3})}),
+        (attempted, {"session": Session(program), "changes": list(MENU), "fast": False}),
+        (Console(program).say, {"row": "guards"}),
+        (pair_sights, {"program": program, "one": "x", "other": "y"}),
+        (is_torn, {"program": program, "one": "x", "other": "y"}),
+        (torn_script, {"program": program, "one": "x", "other": "y"}),
     ]
 
 
@@ -114,7 +137,12 @@ class CallsTest(unittest.TestCase):
             masks_left: "program procedure", keeps: "program procedure", left_script: "program procedure", starved: "program",
             starving: "program line", endless: "program arrivals", endless_ring: "program floor arrivals",
             longest: "program level", stretch_ring: "program level", stretch_script: "program level",
-            deepest: "program sizes", pile_script: "program sizes",
+            deepest: "program sizes", pile_script: "program sizes", is_met: "program wish", Mend: "program menu wishes",
+            Mend(made(), [], []).behind: "choice", Mend(made(), [], []).unmet: "choice", Mend(made(), [], []).least: "",
+            Mend(made(), [], []).mending: "", alike: "one other", difference: "one other", Session: "program",
+            Session(made()).guard: "procedure point level", Session(made()).undo: "", attempted: "session changes fast",
+            Attempt: "session", Console: "program", Console(made()).say: "row", pair_sights: "program one other",
+            is_torn: "program one other", torn_script: "program one other",
             Relation: "pairs", Relation.same: "stores", Relation([]).closed: "stores", Relation([]).__call__: "store",
         }
         for call, names in wanted.items():
@@ -124,7 +152,7 @@ class CallsTest(unittest.TestCase):
         figures = 0
         for call, named in calls_of(made()):
             told = plain(call(**named))
-            if type(told) is list and call not in (script_to, against, read_script, left_script):
+            if type(told) is list and getattr(call, "__name__", "") not in UNORDERED:
                 order = int if told and type(told[0]) is int else str
                 self.assertEqual(told, sorted(set(told), key=order))
                 figures += told != sorted(told)
@@ -175,7 +203,7 @@ class CallsTest(unittest.TestCase):
         calls = calls_of(program)
         wanted = [plain(call(**named)) for call, named in calls]
         for call, named in calls:
-            for name in named:
+            for name in [name for name in named if call != attempted]:
                 for odd in odd_values():
                     try:
                         call(**{**named, name: odd})
@@ -186,7 +214,8 @@ class CallsTest(unittest.TestCase):
 
     def test_any_value_in_any_place_raises_an_error_of_the_package_or_none(self):
         for call, named in calls_of(made()):
-            for many in range(1, len(named) + 1):
+            # Nothing is said of what is no session, or no list of changes.
+            for many in range(1, len(named) + 1 if call != attempted else 1):
                 for names in itertools.combinations(named, many):
                     for odd in odd_values():
                         try:
@@ -233,6 +262,10 @@ class CallsTest(unittest.TestCase):
                 self.assertEqual(script_to(other, place), script_to(program, place))
             for told in (starved, pile_script):
                 self.assertEqual(told(other), told(program))
+            if program.cells() == ["c", "d"]:
+                self.assertEqual(torn_script(other, "c", "d"), torn_script(program, "c", "d"))
+            changed = program.with_guards({("main", 1): 1})
+            self.assertEqual(difference(other, changed), difference(program, read_program(write_program(changed))))
             for procedure in program.procedures():
                 self.assertEqual(left_script(other, procedure), left_script(program, procedure))
             for line in program.lines():

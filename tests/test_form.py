@@ -37,6 +37,10 @@ FUNCTIONS = {
     },
     "stretches": {"longest": "program level", "stretch_ring": "program level", "stretch_script": "program level"},
     "piles": {"deepest": "program sizes", "pile_script": "program sizes"},
+    "mends": {"is_met": "program wish"},
+    "likeness": {"alike": "one other", "difference": "one other"},
+    "sessions": {"attempted": "session changes *, fast"},
+    "pairs": {"pair_sights": "program one other", "is_torn": "program one other", "torn_script": "program one other"},
 }
 CLASSES = {
     "programs": {
@@ -61,6 +65,16 @@ CLASSES = {
             "__eq__": "other", "turned": "", "closed": "stores", "same": "stores",
         },
     },
+    "mends": {
+        "Mend": {
+            "__init__": "program menu wishes", "behind": "choice", "unmet": "choice", "mending": "", "least": "", "__len__": "",
+        },
+    },
+    "sessions": {
+        "Session": {"__init__": "program", "guarded": "", "guard": "procedure point level", "undo": "", "__len__": ""},
+        "Attempt": {"__init__": "session", "__enter__": "", "__exit__": "kind value trace", "hold_fast": ""},
+    },
+    "consoles": {"Console": {"__init__": "program", "say": "row"}},
 }
 DECORATORS = {
     "Program": {"levels": "property", "size": "property", "main": "property"},

@@ -90,4 +90,5 @@ class Refusals:
         with self.assertRaises(error) as caught:
             told(*args, **named)
         self.assertIs(type(caught.exception), error)
-        self.assertIs(caught.exception.value, value)
+        (kept,) = vars(caught.exception).values()
+        self.assertIs(kept, value)
