@@ -12,7 +12,6 @@ from maskedlevels.programs import check_program
 from maskedlevels.programs import is_within
 from maskedlevels.starving import is_shut
 from maskedlevels.starving import starved
-from maskedlevels.starving import starved_in
 from maskedlevels.steps import greater
 from maskedlevels.stretches import longest_in
 
@@ -161,9 +160,12 @@ class Mend:
         """Whether a choice mends a program in which these lines are starved without it."""
         program = self.behind(choice)
         flow = flow_of(program)
-        if not all([meets(program, flow, wish) for wish in self._wishes]):
-            return False
-        return all([line in without for line in starved_in(program, flow)])
+        # Most choices are refused, so nothing is worked out behind the first wish that is not met.
+        for wish in self._wishes:
+            if not meets(program, flow, wish):
+                return False
+        levels = {program.line_of(line)[0]: True for line in program.lines() if line not in without}
+        return not any([is_shut(program, flow, level) for level in levels])
 
     def __len__(self):
         return len(self._menu)

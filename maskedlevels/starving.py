@@ -23,17 +23,13 @@ def is_shut(program, flow, level):
     return len(turns_of(Stay(program, flow, level, False))) > 0
 
 
-def starved_in(program, flow):
-    """The lines that can be starved, by the flow of all runs."""
-    levels = {program.line_of(line)[0]: True for line in program.lines()}
-    shut = {level: is_shut(program, flow, level) for level in levels}
-    return [line for line in program.lines() if shut[program.line_of(line)[0]]]
-
-
 def starved(program):
     """The lines that can be starved, ascending."""
     check_program(program)
-    return starved_in(program, flow_of(program))
+    flow = flow_of(program)
+    levels = {program.line_of(line)[0]: True for line in program.lines()}
+    shut = {level: is_shut(program, flow, level) for level in levels}
+    return [line for line in program.lines() if shut[program.line_of(line)[0]]]
 
 
 def starving(program, line):

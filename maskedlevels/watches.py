@@ -52,8 +52,9 @@ class Watch(Flow):
 
     def first_of(self, beginning):
         """The entry of a frame at its beginning."""
+        # What its store shows was seen where it begins.
         entry = first_entry(beginning[:4])
-        return (beginning, *entry[1:], self._seen_in(beginning[4], beginning[2]))
+        return (beginning, *entry[1:], beginning[4])
 
     def rows_at(self, entry):
         """A tuple (choice, entry behind) for each way to do the row at an entry."""

@@ -157,7 +157,7 @@ def held_row(draw, cells, size, levels, names, end):
     rows = [
         ("raise", level), ("raise", level), ("mask", level), ("mask", level), ("load", cell), ("keep",), ("give",),
         ("set", cell, value), ("add", cell, 1), ("look", cell), ("if", cell, value, draw.randrange(end + 1)),
-        ("if", cell, value, draw.randrange(end + 1)), ("go", draw.randrange(end + 1)),
+        ("if", cell, value, draw.randrange(end + 1)), ("go", draw.randrange(end + 1)), ("either", end),
     ]
     for name in names:
         rows.extend([("call", name)] * 4)

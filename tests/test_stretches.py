@@ -106,6 +106,13 @@ class StretchesTest(unittest.TestCase, Stretches):
         rows = {"main": [("raise", 1), ("call", "sub"), ("call", "sub"), ("mask", 0)], "sub": [("keep",), ("keep",)]}
         self.told(self.made(rows), 1, 2 * 3 + 1)
 
+    def test_the_longer_way_through_what_is_called(self):
+        rows = {
+            "main": [("raise", 1), ("call", "sub"), ("call", "sub"), ("mask", 0)],
+            "sub": [("either", 4), ("keep",), ("call", "low"), ("keep",)], "low": [("either", 2), ("look", "x")],
+        }
+        self.told(self.made(rows), 1, 2 * (1 + 3 + 1 + 2) + 1)
+
     def test_a_call_of_nothing(self):
         rows = {"main": [("raise", 1), ("call", "sub"), ("mask", 0), ("keep",)], "sub": []}
         self.told(self.made(rows), 1, 2)
