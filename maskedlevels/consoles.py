@@ -1,8 +1,8 @@
 """Consoles that answer rows of words about a program in a session."""
 
 from maskedlevels.errors import NoRow
+from maskedlevels.frames import is_line
 from maskedlevels.masks import masks_left
-from maskedlevels.mends import is_line
 from maskedlevels.notes import guards_of
 from maskedlevels.notes import is_number
 from maskedlevels.notes import write_move

@@ -24,6 +24,11 @@ def check_point(program, procedure, point):
         raise BadPoint(point)
 
 
+def is_line(program, value):
+    """Whether any value is a line of the program."""
+    return type(value) is str and value in program.lines()
+
+
 def is_beginning(program, value):
     """Whether any value is a beginning of a frame of the program."""
     if type(value) is not tuple or len(value) != 4:
@@ -69,6 +74,12 @@ def first_entry(beginning):
     """The entry of a frame at its beginning."""
     _, _, store, mask = beginning
     return (beginning, 0, 0, store, mask)
+
+
+def plain_entry(entry):
+    """An entry without what a flow may put behind it and behind its beginning."""
+    beginning, point, kept, store, mask, _ = entry
+    return (beginning[:4], point, kept, store, mask)
 
 
 def place_at(entry):

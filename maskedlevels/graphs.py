@@ -6,6 +6,8 @@ nodes to tuples (rows, node before, step): the rows of a way to the node, and ho
 last step goes; both None where the way begins.
 """
 
+from maskedlevels.steps import greater
+
 
 def spread(first, steps_of):
     """How all nodes are found from a first one, by few steps; a function tells the steps of a node."""
@@ -111,3 +113,31 @@ def farthest(graph, firsts):
                     if step[1] in here:
                         todo.append(step[1])
     return found
+
+
+def most_behind(graph, least):
+    """The most rows of ways from each node on, at least what least tells of it; no step with rows is turning."""
+    found = {}
+    # What a ring leads to is worked out ahead of it.
+    for ring in rings_of(graph)[::-1]:
+        here = {node: True for node in ring}
+        most = 0
+        for node in ring:
+            most = greater(most, least.get(node, 0))
+            for step in graph[node]:
+                if step[1] not in here:
+                    most = greater(most, step[0] + found[step[1]])
+        for node in ring:
+            found[node] = most
+    return found
+
+
+def longest_of(found):
+    """A node to which a way with the most rows leads, and these rows."""
+    best = None
+    most = -1
+    for node, way in found.items():
+        if way[0] > most:
+            best = node
+            most = way[0]
+    return (best, most)

@@ -6,6 +6,7 @@ from maskedlevels.errors import BadChange
 from maskedlevels.errors import BadGuards
 from maskedlevels.errors import BadWish
 from maskedlevels.flows import flow_of
+from maskedlevels.frames import is_line
 from maskedlevels.frames import is_point
 from maskedlevels.piles import deepest_in
 from maskedlevels.programs import check_program
@@ -17,11 +18,6 @@ from maskedlevels.stretches import longest_in
 
 MOST_GUARDS = 6
 MOST_WISHES = 8
-
-
-def is_line(program, value):
-    """Whether any value is a line of the program."""
-    return type(value) is str and value in program.lines()
 
 
 def is_many(value):

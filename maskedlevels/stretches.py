@@ -6,6 +6,7 @@ from maskedlevels.frames import begun_at
 from maskedlevels.frames import behind_frame
 from maskedlevels.frames import first_entry
 from maskedlevels.graphs import farthest
+from maskedlevels.graphs import longest_of
 from maskedlevels.graphs import way_in
 from maskedlevels.programs import check_program
 from maskedlevels.programs import is_within
@@ -14,7 +15,7 @@ from maskedlevels.stays import Stay
 from maskedlevels.stays import ring_in
 from maskedlevels.stays import turns_of
 from maskedlevels.ways import approaches
-from maskedlevels.ways import way_to
+from maskedlevels.ways import way_over
 
 # A stretch may begin in what was called before it and end in what is called in it. So it
 # first goes OUT of calls, and from some entry on INTO calls: what it calls and leaves again
@@ -71,17 +72,6 @@ def stretches(program, flow, stay):
     return farthest(graph, [(OUT, entry) for entry in flow.entries()])
 
 
-def longest_of(found):
-    """A node to which a way with the most rows leads, and these rows."""
-    best = None
-    most = -1
-    for node, way in found.items():
-        if way[0] > most:
-            best = node
-            most = way[0]
-    return (best, most)
-
-
 def longest_in(program, flow, level):
     """The greatest number of rows of a stretch, by the flow of all runs; None if there is none."""
     if turns_of(Stay(program, flow, level, True)):
@@ -101,18 +91,6 @@ def stretch_ring(program, level):
     flow = flow_of(program)
     stay = Stay(program, flow, level, True)
     return ring_in(flow, stay, turns_of(stay))
-
-
-def script_before(flow, entry, callers):
-    """A script to an entry of a frame that was called at entries: the frame itself first."""
-    found = approaches(flow)
-    if not callers:
-        return way_to(flow, found, entry)
-    script = way_to(flow, found, callers[-1])
-    called = [entry, *callers[:-1]]
-    for inner in called[::-1]:
-        script.extend([("row", 0), *flow.moves_to(inner)])
-    return script
 
 
 def moves_along(stay, steps):
@@ -142,7 +120,7 @@ def stretch_script(program, level):
     # What is done behind the last row is no part of the stretch.
     while not moves[-1][1]:
         moves.pop()
-    callers = [caller for _, _, _, caller in steps if caller is not None]
-    script = script_before(flow, first[1], callers)
+    callers = [(caller, ("row", 0)) for _, _, _, caller in steps if caller is not None]
+    script = way_over(flow, approaches(flow), first[1], callers)
     script.extend([move for move, _ in moves])
     return (script, many)

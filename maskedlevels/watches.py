@@ -6,6 +6,7 @@ from maskedlevels.frames import behind_frame
 from maskedlevels.frames import behind_rows
 from maskedlevels.frames import first_entry
 from maskedlevels.frames import main_beginning
+from maskedlevels.frames import plain_entry
 from maskedlevels.frames import row_of
 
 # A watch is a tuple. An activation looks for itself: its watch is () as long as no look at
@@ -14,12 +15,6 @@ from maskedlevels.frames import row_of
 # cell has had since while the one had this value. Lines that are served in between go with
 # watches (value, seen) for it; for themselves they begin with () once more.
 NOTHING = ()
-
-
-def plain(entry):
-    """An entry without its watches."""
-    beginning, point, kept, store, mask, _ = entry
-    return (beginning[:4], point, kept, store, mask)
 
 
 def is_for_another(watch):
@@ -58,12 +53,12 @@ class Watch(Flow):
 
     def rows_at(self, entry):
         """A tuple (choice, entry behind) for each way to do the row at an entry."""
-        rows = behind_rows(self._program, plain(entry))
+        rows = behind_rows(self._program, plain_entry(entry))
         return [(choice, (entry[0], *behind[1:], self._watch_behind(entry, behind[3]))) for choice, behind in rows]
 
     def frames_at(self, entry):
         """A tuple (move, beginning) for each frame that can begin at an entry."""
-        begun = begun_at(self._program, plain(entry))
+        begun = begun_at(self._program, plain_entry(entry))
         return [(move, (*first, watch)) for move, first in begun for watch in self._watches_begun(entry[5], move)]
 
     def entry_behind(self, entry, move, end):
@@ -71,7 +66,7 @@ class Watch(Flow):
         watch = self._watch_left(entry[5], move, end[5])
         if watch is None:
             return None
-        behind = behind_frame(plain(entry), move, plain(end))
+        behind = behind_frame(plain_entry(entry), move, plain_entry(end))
         return (entry[0], *behind[1:], watch)
 
     def _seen_in(self, watch, store):

@@ -35,6 +35,21 @@ def way_to(flow, found, entry):
     return [move for part in parts[::-1] for move in part]
 
 
+def way_over(flow, found, entry, below):
+    """A script that ends at an entry of a frame that was begun over others.
+
+    Below are tuples (entry, move) of those others, the highest first: where they are, and
+    the move with which they begin the next frame.
+    """
+    if not below:
+        return way_to(flow, found, entry)
+    script = way_to(flow, found, below[-1][0])
+    above = [entry, *[other for other, _ in below[:-1]]]
+    for inner, (_, move) in zip(above[::-1], below[::-1]):
+        script.extend([move, *flow.moves_to(inner)])
+    return script
+
+
 def moves_before(flow, found, entry):
     """How many moves a run makes at least to come to an entry, with the approaches that were found."""
     return found[entry[0]][0] + flow.far(entry)

@@ -41,6 +41,16 @@ FUNCTIONS = {
     "likeness": {"alike": "one other", "difference": "one other"},
     "sessions": {"attempted": "session changes *, fast"},
     "pairs": {"pair_sights": "program one other", "is_torn": "program one other", "torn_script": "program one other"},
+    "books": {"book_of": "program", "is_book": "program value", "lacking": "program pages"},
+    "numbers": {"numbered": "program wish", "is_proved": "program value wish"},
+    "partbooks": {
+        "part_of": "program names", "is_part": "program names value", "demands": "program names part",
+        "unkept": "program parts", "untouched": "program other", "joined_book": "program parts",
+    },
+    "waits": {
+        "longest_wait": "program line allowance", "wait_script": "program line allowance",
+        "wait_ring": "program line allowance",
+    },
 }
 CLASSES = {
     "programs": {
