@@ -88,6 +88,12 @@ def place_at(entry):
     return (beginning[0], point, kept, store, mask, beginning[1])
 
 
+def entry_at(place):
+    """An entry at a place, of a frame that began with the same store and mask."""
+    procedure, point, kept, store, mask, floor = place
+    return ((procedure, floor, store, mask), point, kept, store, mask)
+
+
 def row_of(program, entry):
     """The row at which an entry is, None at the end of its procedure."""
     return program.row_at(entry[0][0], entry[1])

@@ -101,3 +101,32 @@ def behind_move(program, state, move):
     if what not in choices_in(program, state):
         return None
     return behind_row(program, state, what)
+
+
+def steps_from(program, state):
+    """A tuple (move, state behind) for each move that can be made, in the order of the moves."""
+    found = [(("serve", line), behind_serve(program, state, line)) for line in lines_in(program, state)]
+    choices = choices_in(program, state)
+    found.extend([(("row", choice), behind_row(program, state, choice)) for choice in choices])
+    return found
+
+
+def space_of(program, most):
+    """A dict from all states that can be come to, the first one first, to their steps.
+
+    None if they are more than most, which is None for any number of them.
+    """
+    first = first_state(program)
+    seen = {first: True}
+    todo = [first]
+    space = {}
+    while todo:
+        if most is not None and len(seen) > most:
+            return None
+        state = todo.pop()
+        space[state] = steps_from(program, state)
+        for _, behind in space[state]:
+            if behind not in seen:
+                seen[behind] = True
+                todo.append(behind)
+    return space

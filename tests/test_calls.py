@@ -8,9 +8,11 @@ import unittest
 from maskedlevels.books import book_of, is_book, lacking
 from maskedlevels.claims import against, holds, is_shown
 from maskedlevels.consoles import Console
-from maskedlevels.errors import LevelError
+from maskedlevels.counting import Scripts, many_states
+from maskedlevels.errors import BadArgument, LevelError
+from maskedlevels.guarded import Guarded
 from maskedlevels.likeness import alike, difference
-from maskedlevels.machine import played
+from maskedlevels.machine import Board, Machine, is_move, places_of, played
 from maskedlevels.masks import keeps, left_script, masks_left
 from maskedlevels.mends import Mend, is_met
 from maskedlevels.notes import read_move, read_program, read_script, write_move, write_program, write_script
@@ -18,11 +20,17 @@ from maskedlevels.numbers import is_proved, numbered
 from maskedlevels.pairs import is_torn, pair_sights, torn_script
 from maskedlevels.partbooks import demands, is_part, joined_book, part_of, unkept, untouched
 from maskedlevels.piles import deepest, pile_script
-from maskedlevels.programs import Program
+from maskedlevels.programs import Program, is_word
 from maskedlevels.reached import can_come, masks_at, meetings, places, script_to, seen_at
 from maskedlevels.relations import Relation, between, outcomes, relation_of, served
 from maskedlevels.sessions import Attempt, Session, attempted
+from maskedlevels.sheets import (
+    read_claim, read_entry, read_place, read_table, write_claim, write_entry, write_place, write_table,
+)
+from maskedlevels.shortest import fewest_moves, how_many_shortest, shortest_scripts
+from maskedlevels.sights import all_words, has_word, parting_word, show_alike, word_script
 from maskedlevels.starving import endless, endless_ring, starved, starving
+from maskedlevels.steps import can_serve, is_store, value_in
 from maskedlevels.stretches import longest, stretch_ring, stretch_script
 from maskedlevels.tables import is_table, joined, more_of, table_of
 from maskedlevels.waits import longest_wait, wait_ring, wait_script
@@ -44,7 +52,13 @@ WISHES = [("apart", "s"), ("short", 1, 10), ("unseen", "main", 3, 1)]
 
 
 # Scripts, and what is told in an order of its own.
-UNORDERED = ("script_to", "against", "read_script", "left_script", "torn_script", "attempted", "least", "say")
+UNORDERED = (
+    "script_to", "against", "read_script", "left_script", "torn_script", "attempted", "least", "say", "can_serve",
+    "places_of", "mending", "word_script", "all_words", "shortest_scripts", "each", "__getitem__", "untouched", "claims",
+    "held_moves",
+)
+CLAIM = ("bound", "main", 1)
+WORD = [("x", 0), ("y", 1)]
 
 
 def made(turned=False):
@@ -52,6 +66,29 @@ def made(turned=False):
     parts = [dict(reversed(list(part.items()))) if turned else dict(part) for part in (START, ROWS, LINES, GUARDS)]
     start, rows, lines, guards = parts
     return Program(3, 3, start, {name: list(row) for name, row in rows.items()}, lines, guards=guards)
+
+
+def calls_of_programs(program):
+    """Each call of the modules for programs, their steps and machines."""
+    parts = {"levels": 3, "size": 3, "start": START, "procedures": ROWS, "lines": LINES, "main": "main", "guards": GUARDS}
+    return [
+        (is_word, {"value": "word"}),
+        (Program, parts),
+        (program.line_of, {"line": "t"}),
+        (program.guard_at, {"procedure": "main", "point": 3}),
+        (program.with_guards, {"guards": GUARDS}),
+        (is_store, {"program": program, "value": STORE}),
+        (value_in, {"program": program, "store": STORE, "name": "s"}),
+        (can_serve, {"program": program, "procedure": "main", "point": 3, "mask": 0}),
+        (is_move, {"value": ("row", 1)}),
+        (Machine, {"program": program}),
+        (Machine(program).play, {"script": []}),
+        (played, {"program": program, "script": [("row", 1), ("serve", "u")]}),
+        (places_of, {"program": program, "script": [("row", 1), ("serve", "t"), ("row", 0)]}),
+        (Board, {"program": program}),
+        (Board(program).arrive, {"line": "t"}),
+        (Mend(program, MENU, []).mending, {}),
+    ]
 
 
 def calls_of(program):
@@ -123,6 +160,30 @@ def calls_of(program):
         (longest_wait, {"program": program, "line": "t", "allowance": {"u": 2}}),
         (wait_script, {"program": program, "line": "t", "allowance": {"u": 1}}),
         (wait_ring, {"program": program, "line": "u", "allowance": {}}),
+        *calls_of_programs(program),
+        (has_word, {"program": program, "word": WORD}),
+        (word_script, {"program": program, "word": WORD}),
+        (all_words, {"program": program, "many": 2}),
+        (show_alike, {"one": program, "other": program.with_guards({})}),
+        (parting_word, {"one": program, "other": Program(1, 2, {"x": 0}, {"main": []}, {})}),
+        (shortest_scripts, {"program": program, "claim": CLAIM}),
+        (how_many_shortest, {"program": program, "claim": ("apart", "s")}),
+        (fewest_moves, {"program": program, "claim": CLAIM}),
+        (many_states, {"program": program}),
+        (Scripts(program, 3).number_of, {"script": [("row", 2), ("serve", "t"), ("serve", "u")]}),
+        (Scripts(program, 3).__getitem__, {"number": 4}),
+        (Scripts(program, 2).each, {}),
+        (Guarded(program, CLAIM, CLAIM).claims, {}),
+        (Guarded(program, ("bound", "put", 0)).held_moves, {}),
+        (Guarded(program, CLAIM).play, {"script": []}),
+        (write_place, {"program": program, "place": PLACE}),
+        (write_entry, {"program": program, "entry": table[3]}),
+        (write_table, {"program": program, "table": table}),
+        (write_claim, {"program": program, "claim": CLAIM}),
+        (read_place, {"program": program, "word": write_place(program, PLACE)}),
+        (read_entry, {"program": program, "word": write_entry(program, table[3])}),
+        (read_table, {"program": program, "text": write_table(program, table[:9])}),
+        (read_claim, {"program": program, "text": "bound main 1"}),
     ]
 
 
@@ -131,6 +192,11 @@ def by_position(call, named):
     kinds = inspect.signature(call).parameters
     behind = {name: value for name, value in named.items() if kinds[name].kind == inspect.Parameter.KEYWORD_ONLY}
     return call(*[value for name, value in named.items() if name not in behind], **behind)
+
+
+def told_by(error, value):
+    """The name of an error, and whether it keeps this very value."""
+    return (type(error).__name__, any(told is value for told in vars(error).values()))
 
 
 def kept(value):
@@ -144,6 +210,10 @@ def kept(value):
 
 def plain(value):
     """What is told as a value that can be kept and compared."""
+    if isinstance(value, Machine):
+        return (type(value), value.place(), value.frames(), value.moves())
+    if inspect.isgenerator(value):
+        return list(value)
     return value.pairs() if isinstance(value, Relation) else value
 
 
@@ -151,7 +221,8 @@ class CallsTest(unittest.TestCase):
     def test_each_call_by_the_names_of_its_parameters_in_any_order(self):
         for call, named in calls_of(made()):
             wanted = plain(by_position(call, named))
-            for order in itertools.permutations(named):
+            # Of seven parameters the orders are very many.
+            for order in itertools.islice(itertools.permutations(named), 0, None, 1 if len(named) < 5 else 97):
                 self.assertEqual(plain(call(**{name: named[name] for name in order})), wanted)
 
     def test_parameters_have_the_names_of_the_interface(self):
@@ -174,7 +245,18 @@ class CallsTest(unittest.TestCase):
             lacking: "program pages", numbered: "program wish", is_proved: "program value wish", part_of: "program names",
             is_part: "program names value", demands: "program names part", unkept: "program parts",
             joined_book: "program parts", untouched: "program other", longest_wait: "program line allowance",
-            wait_script: "program line allowance", wait_ring: "program line allowance",
+            wait_script: "program line allowance", wait_ring: "program line allowance", has_word: "program word",
+            word_script: "program word", all_words: "program many", show_alike: "one other", parting_word: "one other",
+            shortest_scripts: "program claim", how_many_shortest: "program claim", fewest_moves: "program claim",
+            many_states: "program", Scripts: "program moves", Scripts(made(), 1).number_of: "script", Scripts(made(), 1).each: "",
+            Guarded: "program claims", Guarded(made()).__call__: "move", Guarded(made()).claims: "", Guarded(made()).held_moves: "",
+            Guarded(made()).play: "script", write_place: "program place", write_entry: "program entry", write_table: "program table",
+            write_claim: "program claim", read_place: "program word", read_entry: "program word", read_table: "program text",
+            read_claim: "program text", is_word: "value", Program: "levels size start procedures lines main guards",
+            made().line_of: "line", made().guard_at: "procedure point", made().with_guards: "guards", is_store: "program value",
+            value_in: "program store name", can_serve: "program procedure point mask", is_move: "value", Machine: "program",
+            Machine(made()).__call__: "move", Machine(made()).play: "script", Machine(made()).copied: "", played: "program script",
+            places_of: "program script", Board: "program", Board(made()).arrive: "line", Board(made()).step: "choice",
             Relation: "pairs", Relation.same: "stores", Relation([]).closed: "stores", Relation([]).__call__: "store",
         }
         for call, names in wanted.items():
@@ -228,7 +310,7 @@ class CallsTest(unittest.TestCase):
         program = made()
         for call, named in calls_of(program):
             before = kept(named)
-            call(**named)
+            plain(call(**named))
             self.assertEqual(named, before)
         self.assertEqual(program, made())
 
@@ -240,7 +322,7 @@ class CallsTest(unittest.TestCase):
             for name in [name for name in named if call != attempted]:
                 for odd in odd_values():
                     try:
-                        call(**{**named, name: odd})
+                        plain(call(**{**named, name: odd}))
                     except LevelError:
                         pass
         self.assertEqual([plain(call(**named)) for call, named in calls], wanted)
@@ -253,7 +335,7 @@ class CallsTest(unittest.TestCase):
                 for names in itertools.combinations(named, many):
                     for odd in odd_values():
                         try:
-                            call(**{**named, **{name: odd for name in names}})
+                            plain(call(**{**named, **{name: odd for name in names}}))
                         except LevelError:
                             pass
 
@@ -268,17 +350,63 @@ class CallsTest(unittest.TestCase):
                 # All values from a parameter on are wrong; each one that is looked at goes ahead of those behind it.
                 for at in range(len(names)):
                     try:
-                        call(**{**named, **{name: odd for name in names[at:]}})
+                        plain(call(**{**named, **{name: odd for name in names[at:]}}))
                         errors.append(None)
                     except LevelError as error:
-                        errors.append((type(error).__name__, error.value is odd))
+                        errors.append(told_by(error, odd))
                 self.assertEqual(errors[0], ("BadArgument", True))
                 try:
-                    call(**{**named, names[1]: odd})
+                    plain(call(**{**named, names[1]: odd}))
                 except LevelError as error:
                     # Names that are right alone can make a part wrong that stands behind them.
-                    if call != demands or error.value is odd:
-                        self.assertEqual(errors[1], (type(error).__name__, error.value is odd))
+                    if call != demands or told_by(error, odd)[1]:
+                        self.assertEqual(errors[1], told_by(error, odd))
+
+    def test_what_is_no_program(self):
+        many = 0
+        for call, named in calls_of(made()):
+            for name in ("program", "one", "other"):
+                if not isinstance(named.get(name), Program):
+                    continue
+                many += 1
+                for odd in odd_values():
+                    with self.assertRaises(BadArgument) as caught:
+                        plain(call(**{**named, name: odd}))
+                    self.assertIs(caught.exception.value, odd)
+        self.assertGreater(many, 75)
+
+    def test_generators_raise_and_look_when_their_first_value_is_asked_for(self):
+        many = 0
+        for call, named in calls_of(made()):
+            if inspect.isgenerator(call(**named)):
+                many += 1
+                for name in named:
+                    for odd in odd_values():
+                        told = call(**{**named, name: odd})
+                        self.assertTrue(inspect.isgenerator(told))
+        self.assertEqual(many, 5)
+        script = [("row", 1)]
+        told = places_of(made(), script)
+        script.append(("serve", "u"))
+        self.assertEqual(next(told), ("main", 0, 0, (2, 0, 0), 0, 0))
+        # Behind its first value the script is its own.
+        script.clear()
+        self.assertEqual([place[:2] for place in told], [("main", 1), ("flip", 0)])
+
+    def test_what_is_yielded_belongs_to_the_caller(self):
+        for call, named in calls_of(made()):
+            if inspect.isgenerator(call(**named)):
+                wanted, found = list(call(**named)), []
+                self.assertGreater(len(wanted), 1)
+                for value in call(**named):
+                    found.append(kept(value))
+                    if type(value) is list:
+                        value.reverse()
+                        value.append(None)
+                    for part in named.values():
+                        if type(part) is list:
+                            part.append(None)
+                self.assertEqual(found, wanted)
 
     def test_later_changes_of_what_was_given_change_nothing(self):
         stores = [STORE, (2, 2, 0)]

@@ -17,14 +17,17 @@ EXAMPLE = """
 [('serve', 'tick'), [], ('clock', 0, 0, (0, 0), 1, 1)]
 """
 
-# Of the second example, what does not count scripts.
-CLAIMS = """
+COUNTS = """
 >>> from maskedlevels.claims import against
+>>> from maskedlevels.counting import Scripts
 >>> from maskedlevels.programs import Program
 >>> from maskedlevels.reached import seen_at
 >>> program = Program(1, 2, {"x": 0}, {"main": [("look", "x")], "flip": [("add", "x", 1)]}, {"t": (1, "flip")})
 >>> (seen_at(program, "main", 0), against(program, ("unseen", "main", 0, 1)))
 ([0, 1], [('serve', 't'), ('row', 0), ('row', 0)])
+>>> scripts = Scripts(program, 2)
+>>> (scripts.amount, scripts[0], scripts.number_of([("row", 0), ("serve", "t")]))
+(2, [('serve', 't'), ('row', 0)], 1)
 """
 
 
@@ -40,7 +43,7 @@ class ExampleTest(unittest.TestCase):
 
     def test_the_examples_of_the_interface(self):
         self.holds(EXAMPLE)
-        self.holds(CLAIMS)
+        self.holds(COUNTS)
 
     def test_the_examples_of_the_readme(self):
         here = os.path.dirname(os.path.abspath(__file__))

@@ -51,6 +51,19 @@ FUNCTIONS = {
         "longest_wait": "program line allowance", "wait_script": "program line allowance",
         "wait_ring": "program line allowance",
     },
+    "sights": {
+        "has_word": "program word", "show_alike": "one other", "word_script": "program word",
+        "all_words": "program many", "parting_word": "one other",
+    },
+    "shortest": {
+        "shortest_scripts": "program claim", "how_many_shortest": "program claim", "fewest_moves": "program claim",
+    },
+    "counting": {"many_states": "program"},
+    "sheets": {
+        "write_place": "program place", "write_entry": "program entry", "write_table": "program table",
+        "write_claim": "program claim", "read_place": "program word", "read_entry": "program word",
+        "read_claim": "program text", "read_table": "program text",
+    },
 }
 CLASSES = {
     "programs": {
@@ -85,11 +98,23 @@ CLASSES = {
         "Attempt": {"__init__": "session", "__enter__": "", "__exit__": "kind value trace", "hold_fast": ""},
     },
     "consoles": {"Console": {"__init__": "program", "say": "row"}},
+    "counting": {
+        "Scripts": {
+            "__init__": "program moves", "length": "", "amount": "", "__getitem__": "number", "__contains__": "script",
+            "number_of": "script", "each": "",
+        },
+    },
+    "guarded": {
+        "Guarded": {
+            "__init__": "program *claims", "claims": "", "__call__": "move", "held_moves": "", "play": "script",
+        },
+    },
 }
 DECORATORS = {
     "Program": {"levels": "property", "size": "property", "main": "property"},
     "Machine": {"program": "property", "store": "property", "mask": "property"},
     "Relation": {"same": "staticmethod"},
+    "Scripts": {"length": "property", "amount": "property"},
 }
 USED_BUILTINS = set(
     "len range enumerate zip min max sum abs sorted reversed int str bool bytes list tuple dict set frozenset "
