@@ -132,12 +132,34 @@ def most_behind(graph, least):
     return found
 
 
-def longest_of(found):
-    """A node to which a way with the most rows leads, and these rows."""
+def most_ahead(firsts, steps_of):
+    """The ways with the most rows from some nodes on, where no steps lead back to a node.
+
+    A dict from nodes to tuples (rows, step): how many rows they are, and the first step,
+    None if the way ends there. A function tells the steps of a node; they are not kept.
+    """
+    found = {}
+    todo = [(node, None) for node in firsts]
+    while todo:
+        node, steps = todo.pop()
+        if node in found:
+            continue
+        if steps is None:
+            steps = steps_of(node)
+            todo.append((node, steps))
+            todo.extend([(step[1], None) for step in steps if step[1] not in found])
+        else:
+            found[node] = best_ahead(found, steps)
+    return found
+
+
+def best_ahead(found, steps):
+    """The most rows of ways that begin with one of some steps, and this step, by what is found of those behind them."""
+    most = 0
     best = None
-    most = -1
-    for node, way in found.items():
-        if way[0] > most:
-            best = node
-            most = way[0]
-    return (best, most)
+    for step in steps:
+        rows = step[0] + found[step[1]][0]
+        if rows > most:
+            most = rows
+            best = step
+    return (most, best)

@@ -6,7 +6,6 @@ from maskedlevels.frames import begun_at
 from maskedlevels.frames import behind_frame
 from maskedlevels.frames import first_entry
 from maskedlevels.graphs import farthest
-from maskedlevels.graphs import longest_of
 from maskedlevels.graphs import way_in
 from maskedlevels.programs import check_program
 from maskedlevels.programs import is_within
@@ -70,6 +69,17 @@ def stretches(program, flow, stay):
         graph[(OUT, entry)] = steps_out(stay, callers, entry)
         graph[(INTO, entry)] = steps_into(program, stay, entry)
     return farthest(graph, [(OUT, entry) for entry in flow.entries()])
+
+
+def longest_of(found):
+    """A node to which a way with the most rows leads, and these rows."""
+    best = None
+    most = -1
+    for node, way in found.items():
+        if way[0] > most:
+            best = node
+            most = way[0]
+    return (best, most)
 
 
 def longest_in(program, flow, level):

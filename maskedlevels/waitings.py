@@ -1,10 +1,10 @@
 """What frames do while a line waits and others are served ahead of it.
 
 A node is a tuple (entry, left): left tells of each line that may be served ahead how
-often it still may. A step of a frame is a tuple (rows, node behind, move, begun, end):
-how many rows it has, the node of the same frame to which it leads, the move with which it
-begins, and the nodes at the beginning and the end of the frame that this move begins,
-both None for a row alone.
+often it still may, in one number that has three bits for each of them. A step of a frame
+is a tuple (rows, node behind, move, end): how many rows it has, the node of the same
+frame to which it leads, the move with which it begins, and the node at the end of the
+frame that this move begins, None for a row alone.
 """
 
 from maskedlevels.frames import begun_at
@@ -15,14 +15,19 @@ from maskedlevels.frames import first_entry
 from maskedlevels.frames import line_beginning
 from maskedlevels.frames import row_of
 from maskedlevels.graphs import farthest
+from maskedlevels.graphs import most_ahead
 from maskedlevels.graphs import way_in
 
 # A wait may begin in frames that return in it, and end in frames that begin in it. So it
-# first goes OUT of frames, and from some node on INTO frames: what begins in it and returns
+# first goes OUT of frames, and from some frame on INTO frames: what begins in it and returns
 # in it are steps of frames. A spot is a tuple (OUT or INTO, node), and a step between spots
 # a tuple (rows, spot behind, step of a frame or None, (entry, move) of the frame below or None).
 OUT = "out"
 INTO = "into"
+
+BITS = 3
+# The highest one of the bits of a line, which no number up to 3 has.
+FENCE = 4
 
 
 def graph_from(firsts, steps_of):
@@ -46,9 +51,11 @@ class Waiting:
         self._level = program.line_of(line)[0]
         # Lines that may not be served at all need no number.
         self._ahead = [other for other in program.lines() if allowance.get(other, 0) > 0]
-        self._allowed = tuple([allowance[other] for other in self._ahead])
+        self._allowed = sum([allowance[other] << (BITS * seat) for seat, other in enumerate(self._ahead)])
+        self._fences = sum([FENCE << (BITS * seat) for seat in range(len(self._ahead))])
         self._below = self._frames_below()
         self._found = {}
+        self._returns = {}
 
     def _frames_below(self):
         """A dict from beginnings to tuples (entry, move): where, and with which move, they begin."""
@@ -56,6 +63,12 @@ class Waiting:
         for entry, move, begun in self._flow.begun():
             found.setdefault(begun, []).append((entry, move))
         return found
+
+    def _less_by(self, left, used):
+        """What is left behind some services; None if they are too many."""
+        # Where a line was served too often, its fence is taken away.
+        rest = (left | self._fences) - used
+        return rest ^ self._fences if rest & self._fences == self._fences else None
 
     def _is_shut(self, entry):
         """Whether the line that waits cannot be served at an entry, so that any move may be made."""
@@ -66,18 +79,17 @@ class Waiting:
         return row_of(self._program, entry) is None and self._is_shut(entry)
 
     def _begun_from(self, node):
-        """A tuple (rows, node, move) for each frame that begins at a node, with the node of its beginning."""
+        """A tuple (rows, beginning, what is left then, move) for each frame that begins at a node."""
         entry, left = node
         lines = self._program.lines_above(bound_at(self._program, entry))
         found = []
         for seat, line in enumerate(self._ahead):
-            if left[seat] > 0 and line in lines:
-                less = (*left[:seat], left[seat] - 1, *left[seat + 1:])
-                first = first_entry(line_beginning(self._program, line, entry[3]))
-                found.append((0, (first, less), ("serve", line)))
+            less = self._less_by(left, 1 << (BITS * seat))
+            if less is not None and line in lines:
+                found.append((0, line_beginning(self._program, line, entry[3]), less, ("serve", line)))
         if self._is_shut(entry):
             calls = [begun for move, begun in begun_at(self._program, entry) if move[0] == "row"]
-            found.extend([(1, (first_entry(begun), left), ("row", 0)) for begun in calls])
+            found.extend([(1, begun, left, ("row", 0)) for begun in calls])
         return found
 
     def _steps_from(self, node):
@@ -86,58 +98,83 @@ class Waiting:
         found = []
         if self._is_shut(entry):
             rows = behind_rows(self._program, entry)
-            found.extend([(1, (behind, left), ("row", choice), None, None) for choice, behind in rows])
-        for rows, begun, move in self._begun_from(node):
-            inside = self._inside(begun)
-            for end in inside:
-                if self._is_end(end[0]):
-                    behind = (behind_frame(entry, move, end[0]), end[1])
-                    found.append((rows + inside[end][0], behind, move, begun, end))
+            found.extend([(1, (behind, left), ("row", choice), None) for choice, behind in rows])
+        for rows, begun, less, move in self._begun_from(node):
+            for more, end, used in self._returns_of(begun):
+                rest = self._less_by(less, used)
+                if rest is not None:
+                    found.append((rows + more, (behind_frame(entry, move, end[0]), rest), move, end))
         return found
 
-    def _inside(self, first):
-        """The ways with the most rows from the node of a beginning on, within its frame."""
-        if first not in self._found:
-            self._found[first] = farthest(graph_from([first], self._steps_from), [first])
-        return self._found[first]
+    def _inside(self, beginning):
+        """The ways with the most rows from a beginning on, within its frame, if all is left that is allowed.
+
+        They are the same ways if less is left, as long as it is enough for them.
+        """
+        if beginning not in self._found:
+            first = (first_entry(beginning), self._allowed)
+            self._found[beginning] = farthest(graph_from([first], self._steps_from), [first])
+        return self._found[beginning]
+
+    def _returns_of(self, beginning):
+        """A tuple (rows, node of the end, what is used) for each end at which a frame with this beginning returns."""
+        if beginning not in self._returns:
+            inside = self._inside(beginning)
+            ends = [end for end in inside if self._is_end(end[0])]
+            self._returns[beginning] = [(inside[end][0], end, self._allowed - end[1]) for end in ends]
+        return self._returns[beginning]
 
     def _steps_between(self, spot):
         """The steps from a spot on."""
         side, node = spot
-        found = [(step[0], (side, step[1]), step, None) for step in self._steps_from(node)]
-        if side == INTO:
-            for rows, begun, move in self._begun_from(node):
-                found.append((rows, (INTO, begun), (rows, begun, move, None, None), None))
-            return found
         entry, left = node
-        if self._is_end(entry):
+        found = [(step[0], (side, step[1]), step, None) for step in self._steps_from(node)]
+        for rows, begun, less, move in self._begun_from(node):
+            first = (first_entry(begun), less)
+            found.append((rows, (INTO, first), (rows, first, move, None), None))
+        if side == OUT and self._is_end(entry):
             for below, move in self._below.get(entry[0], []):
                 behind = (behind_frame(below, move, entry), left)
                 found.append((0, (OUT, behind), None, (below, move)))
-        found.append((0, (INTO, node), None, None))
         return found
 
-    def waits(self):
-        """The ways of all waits, each with as many rows as can be."""
+    def longest(self):
+        """A tuple (rows, entry, steps between spots) of a wait with the most rows, which begins at the entry.
+
+        No step leads back: rows would be turning, and with each service there is less left.
+        """
         firsts = [(OUT, (entry, self._allowed)) for entry in self._flow.entries()]
-        return farthest(graph_from(firsts, self._steps_between), firsts)
+        found = most_ahead(firsts, self._steps_between)
+        most = 0
+        spot = firsts[0]
+        for first in firsts:
+            if found[first][0] > most:
+                most = found[first][0]
+                spot = first
+        steps = []
+        _, (entry, _) = spot
+        _, step = found[spot]
+        while step is not None:
+            steps.append(step)
+            _, step = found[step[1]]
+        return (most, entry, steps)
 
     def _moves_of(self, steps):
         """The moves of steps of frames."""
         found = []
-        for _, _, move, begun, end in steps:
+        for _, _, move, end in steps:
             found.append(move)
             if end is not None:
-                _, within = way_in(self._inside(begun), end)
+                _, within = way_in(self._inside(end[0][0]), end)
                 found.extend([*self._moves_of(within), ("row", 0)])
         return found
 
     def moves_between(self, steps):
         """The moves of steps between spots."""
         found = []
-        for _, _, step, below in steps:
+        for _, _, step, _ in steps:
             if step is not None:
                 found.extend(self._moves_of([step]))
-            elif below is not None:
+            else:
                 found.append(("row", 0))
         return found

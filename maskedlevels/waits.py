@@ -3,8 +3,6 @@
 from maskedlevels.errors import BadNumber
 from maskedlevels.flows import flow_of
 from maskedlevels.frames import is_line
-from maskedlevels.graphs import longest_of
-from maskedlevels.graphs import way_in
 from maskedlevels.programs import check_program
 from maskedlevels.programs import is_within
 from maskedlevels.stays import Stay
@@ -57,7 +55,7 @@ def longest_wait(program, line, allowance):
     flow = flow_of(program)
     if turns_of(endless_stay(program, flow, line)):
         return None
-    return longest_of(Waiting(program, flow, line, allowance).waits())[1]
+    return Waiting(program, flow, line, allowance).longest()[0]
 
 
 def wait_script(program, line, allowance):
@@ -67,10 +65,7 @@ def wait_script(program, line, allowance):
     if turns_of(endless_stay(program, flow, line)):
         return None
     waiting = Waiting(program, flow, line, allowance)
-    found = waiting.waits()
-    spot, _ = longest_of(found)
-    first, steps = way_in(found, spot)
-    _, (entry, _) = first
+    _, entry, steps = waiting.longest()
     below = [frame for _, _, _, frame in steps if frame is not None]
     return (way_over(flow, approaches(flow), entry, below), waiting.moves_between(steps))
 
