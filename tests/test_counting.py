@@ -212,6 +212,13 @@ class ScriptsTest(unittest.TestCase, Refusals):
             Scripts(program, 1000)
         self.assertEqual(caught.exception.number, 201000)
         self.assertEqual(Scripts(program, 995).length, 995)
+        rows = [("look", "a")] * 3 + [("any", "a")] + [("look", "a")] * 5 + [("any", "b")] + [("look", "a")] * 14
+        program = Program(1, 5, {"a": 0, "b": 0}, {"main": rows}, {})
+        self.assertEqual(many_states(program), 409)
+        with self.assertRaises(TooMany) as caught:
+            Scripts(program, 489)
+        self.assertEqual(caught.exception.number, 200001)
+        self.assertEqual(Scripts(program, 488).amount, 0)
 
     def test_numbers_of_scripts_that_are_none(self):
         program = Program(1, 2, {"x": 0}, {"main": [("look", "x")] * 4, "put": []}, {"t": (1, "put")})

@@ -361,6 +361,10 @@ class RefusedTest(unittest.TestCase, Refusals):
             (end[0], store), (end[0], store, store, store), list(end), ("other", store, store), ("ring", store, store), (None, store, store),
             (end[0], (0, 1), store), (end[0], store, (0, 1)), (end[0], [0, 1, 0], store), (end[0], store, (0, 3, 0)), None, end[0],
         ]
+        # No page needs what follows from these.
+        never = (2, 2, 1)
+        ends.extend([(end[0], never, (0, 1)), (end[0], never, (0, 3, 0)), (end[0], never, [0, 1, 0]), (end[0], never, None), (end[0], (2, 2, 2), never)])
+        self.assertIs(is_part(self.program, names, (pages, granted + [(end[0], never, never)])), True)
         values = [(pages,), (pages, granted, []), [pages, granted], pages, (pages, None), (None, granted), ({}, granted), (pages, {}), None, (), ([], [])]
         values.extend((pages, granted + [value]) for value in ends + odd_values())
         values.extend((pages + [value], granted) for value in odd_values())

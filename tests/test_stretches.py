@@ -106,6 +106,17 @@ class StretchesTest(unittest.TestCase, Stretches):
         rows = {"main": [("raise", 1), ("call", "sub"), ("call", "sub"), ("mask", 0)], "sub": [("keep",), ("keep",)]}
         self.told(self.made(rows), 1, 2 * 3 + 1)
 
+    def test_a_longer_way_behind_services_that_lead_round(self):
+        # Only behind two services, which count for nothing, is the longer way taken.
+        rows = {
+            "main": [("mask", 1), ("keep",), ("call", "sub"), ("keep",), ("mask", 0)],
+            "sub": [("if", "x", 2, 2), ("go", 5), ("keep",), ("keep",), ("keep",)], "put": [("add", "x", 1)],
+        }
+        guards = {("main", point): 2 for point in range(5)} | {("sub", point): 2 for point in range(1, 6)}
+        program = self.made(rows, {"u": (2, "put")}, guards=guards)
+        self.told(program, 1, 3 + 1 + 3 + 2)
+        self.told(self.made(rows, {}, guards=guards), 1, 3 + 2 + 2)
+
     def test_the_longer_way_through_what_is_called(self):
         rows = {
             "main": [("raise", 1), ("call", "sub"), ("call", "sub"), ("mask", 0)],
